@@ -1,0 +1,81 @@
+// Package attest: a dictionary whose answers can be checked: see DOC.md.
+package attest
+
+import (
+	"attest/api"
+	"attest/entry"
+	"attest/shelf"
+	"attest/sum"
+)
+
+// Book is a dictionary.
+type Book struct {
+	entries shelf.Shelf
+}
+
+// New makes an empty one (P4).
+func New() *Book { return &Book{} }
+
+// Put puts a value under a key (P4).
+func (b *Book) Put(key, value string, height int) api.Errno {
+	e := entry.Entry{Key: key, Value: value, Height: height}
+	if fault := e.Fault(); fault != api.OK {
+		return fault
+	}
+	// A nil book has no room at all: to say so is better than to panic.
+	if b == nil || !b.entries.Takes(key) {
+		return api.ErrFull
+	}
+	b.entries = b.entries.With(e)
+	return api.OK
+}
+
+// Delete takes a key out (P4).
+func (b *Book) Delete(key string) api.Errno {
+	if !entry.IsKey(key) {
+		return api.ErrKey
+	}
+	if !b.kept().Has(key) {
+		return api.ErrNone
+	}
+	b.entries = b.entries.Without(key)
+	return api.OK
+}
+
+// Get gets a value (P5).
+func (b *Book) Get(key string) (string, api.Errno) {
+	if !entry.IsKey(key) {
+		return "", api.ErrKey
+	}
+	e, found := b.kept().Find(key)
+	if !found {
+		return "", api.ErrNone
+	}
+	return e.Value, api.OK
+}
+
+// All tells all keys and values (P5).
+func (b *Book) All() []api.Pair { return b.kept().Pairs() }
+
+// Digest tells the digest (P6).
+func (b *Book) Digest() string { return "" }
+
+// Prove makes the answer to a question (P7).
+func (b *Book) Prove(lo, hi string) (string, api.Errno) { return "", api.OK }
+
+// Sum is a text's digest (P3).
+func Sum(s string) string { return sum.Of(s) }
+
+// Check checks an answer, and reads it (P8).
+func Check(digest, lo, hi, answer string) ([]api.Pair, api.Errno) { return nil, api.OK }
+
+// Extract shows where a digest failed (P9).
+func Extract(lo, hi, one, two string) (string, string, api.Errno) { return "", "", api.OK }
+
+// A nil book holds nothing, so that asking it does not panic.
+func (b *Book) kept() shelf.Shelf {
+	if b == nil {
+		return nil
+	}
+	return b.entries
+}
