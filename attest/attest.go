@@ -4,8 +4,10 @@ package attest
 import (
 	"attest/api"
 	"attest/entry"
+	"attest/question"
 	"attest/shelf"
 	"attest/sum"
+	"attest/tree"
 )
 
 // Book is a dictionary.
@@ -58,10 +60,16 @@ func (b *Book) Get(key string) (string, api.Errno) {
 func (b *Book) All() []api.Pair { return b.kept().Pairs() }
 
 // Digest tells the digest (P6).
-func (b *Book) Digest() string { return "" }
+func (b *Book) Digest() string { return b.tree().Digest() }
 
 // Prove makes the answer to a question (P7).
-func (b *Book) Prove(lo, hi string) (string, api.Errno) { return "", api.OK }
+func (b *Book) Prove(lo, hi string) (string, api.Errno) {
+	q := question.Question{Lo: lo, Hi: hi}
+	if fault := q.Fault(); fault != api.OK {
+		return "", fault
+	}
+	return b.tree().Answer(q), api.OK
+}
 
 // Sum is a text's digest (P3).
 func Sum(s string) string { return sum.Of(s) }
@@ -71,6 +79,10 @@ func Check(digest, lo, hi, answer string) ([]api.Pair, api.Errno) { return nil, 
 
 // Extract shows where a digest failed (P9).
 func Extract(lo, hi, one, two string) (string, string, api.Errno) { return "", "", api.OK }
+
+// The tree is made anew for each call: it hangs on the entries alone, and so
+// nothing of it has to be kept.
+func (b *Book) tree() *tree.Node { return tree.Of(b.kept()) }
 
 // A nil book holds nothing, so that asking it does not panic.
 func (b *Book) kept() shelf.Shelf {

@@ -373,16 +373,12 @@ func TestP5AllByRisingKeys(t *testing.T) {
 // P4 and P5 together: a long row of calls, held against a map.
 func TestP4P5AgainstAMap(t *testing.T) {
 	b, model := New(), map[string]string{}
-	n := uint32(1)
-	next := func(below uint32) int {
-		n = n*1664525 + 1013904223
-		return int((n >> 8) % below)
-	}
+	d := dice(1)
 	full := 0
 	for step := range 20000 {
-		key := string([]byte{byte(next(256)) & 0xe1, byte(next(256)) & 0x81})
+		key := string([]byte{byte(d.below(256)) & 0xe1, byte(d.below(256)) & 0x81})
 		_, there := model[key]
-		if next(16) < 11 {
+		if d.below(16) < 11 {
 			value := fmt.Sprint(step)
 			want := wantOfPut(key, value, 3, len(model) == 50, there)
 			if e := b.Put(key, value, 3); e != want {

@@ -1,7 +1,10 @@
 // Package entry: what a book keeps under one key.
 package entry
 
-import "attest/api"
+import (
+	"attest/api"
+	"attest/mark"
+)
 
 // Entry is a key with its value and its height.
 type Entry struct {
@@ -40,4 +43,24 @@ func (e Entry) Fault() api.Errno {
 // Pair tells an entry without its height.
 func (e Entry) Pair() api.Pair {
 	return api.Pair{Key: e.Key, Value: e.Value}
+}
+
+// Head is how a node that holds this entry begins, in its text and in an
+// answer alike.
+func (e Entry) Head() string {
+	return mark.Node + measured(e.Key) + measured(e.Value) + oneByte(e.Height)
+}
+
+// Text is the text of a tree whose node holds this entry, with the digests of
+// the trees to its left and to its right.
+func (e Entry) Text(left, right string) string {
+	return e.Head() + left + right
+}
+
+func measured(s string) string {
+	return oneByte(len(s)) + s
+}
+
+func oneByte(n int) string {
+	return string([]byte{byte(n)})
 }

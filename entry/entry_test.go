@@ -71,3 +71,24 @@ func TestPair(t *testing.T) {
 		t.Errorf("Pair = %q", got)
 	}
 }
+
+func TestHeadAndText(t *testing.T) {
+	twenty := strings.Repeat("\xff", 20)
+	for _, c := range []struct {
+		e    Entry
+		head string
+	}{
+		{Entry{"k", "v", 2}, "N\x01k\x01v\x02"},
+		{Entry{"k", "", 0}, "N\x01k\x00\x00"},
+		{Entry{"eight888", twenty, 15}, "N\x08eight888\x14" + twenty + "\x0f"},
+		{Entry{"\x00\x80", "\x00", 10}, "N\x02\x00\x80\x01\x00\n"},
+		{Entry{"ä", "ß", 1}, "N\x02ä\x02ß\x01"},
+	} {
+		if got := c.e.Head(); got != c.head {
+			t.Errorf("Head of %v = %q, want %q", c.e, got, c.head)
+		}
+		if got, want := c.e.Text("14d", "0f3"), c.head+"14d0f3"; got != want {
+			t.Errorf("Text of %v = %q, want %q", c.e, got, want)
+		}
+	}
+}
