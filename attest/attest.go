@@ -2,6 +2,9 @@
 package attest
 
 import (
+	"errors"
+
+	"attest/answer"
 	"attest/api"
 	"attest/entry"
 	"attest/question"
@@ -75,10 +78,68 @@ func (b *Book) Prove(lo, hi string) (string, api.Errno) {
 func Sum(s string) string { return sum.Of(s) }
 
 // Check checks an answer, and reads it (P8).
-func Check(digest, lo, hi, answer string) ([]api.Pair, api.Errno) { return nil, api.OK }
+func Check(digest, lo, hi, answer string) ([]api.Pair, api.Errno) {
+	q := question.Question{Lo: lo, Hi: hi}
+	told, fault := read(q, answer)
+	switch {
+	case fault != api.OK:
+		return nil, fault
+	case told.Digest() != digest:
+		return nil, api.ErrProof
+	}
+	return told.Pairs(q), api.OK
+}
 
 // Extract shows where a digest failed (P9).
-func Extract(lo, hi, one, two string) (string, string, api.Errno) { return "", "", api.OK }
+func Extract(lo, hi, one, two string) (string, string, api.Errno) {
+	q := question.Question{Lo: lo, Hi: hi}
+	first, fault := read(q, one)
+	if fault != api.OK {
+		return "", "", fault
+	}
+	second, fault := read(q, two)
+	if fault != api.OK {
+		return "", "", fault
+	}
+	if first.Digest() != second.Digest() {
+		return "", "", api.ErrProof
+	}
+	// The same bytes tell the same texts: they need no look of their own.
+	here, there, found := answer.Differ(first, second)
+	if !found {
+		return "", "", api.ErrSame
+	}
+	return here, there, api.OK
+}
+
+// The bytes are read to their end before the places are looked at: a fault
+// of the bytes goes ahead of one of a place, wherever the two are.
+func read(q question.Question, bytes string) (answer.Tree, api.Errno) {
+	if fault := q.Fault(); fault != api.OK {
+		return answer.Tree{}, fault
+	}
+	told, err := answer.Read(bytes)
+	if err != nil {
+		return answer.Tree{}, errno(err)
+	}
+	if err := told.Fault(q); err != nil {
+		return answer.Tree{}, errno(err)
+	}
+	return told, api.OK
+}
+
+func errno(err error) api.Errno {
+	var unread answer.Unread
+	var misplaced answer.Misplaced
+	switch {
+	case errors.As(err, &unread):
+		return api.ErrBytes
+	case errors.As(err, &misplaced):
+		return api.ErrPlace
+	}
+	// An error of no known kind must not let an answer pass.
+	return api.ErrProof
+}
 
 // The tree is made anew for each call: it hangs on the entries alone, and so
 // nothing of it has to be kept.

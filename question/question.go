@@ -22,6 +22,11 @@ func (q Question) Fault() api.Errno {
 	return api.OK
 }
 
+// AsksFor tells whether a key is one from Lo to Hi.
+func (q Question) AsksFor(key string) bool {
+	return q.Lo <= key && key <= q.Hi
+}
+
 // The empty text is no key, and so it is free to say that there is none.
 const none = ""
 
@@ -44,4 +49,9 @@ func (b Bounds) Right(key string) Bounds {
 // MatterTo tells whether a tree within these bounds matters to a question.
 func (b Bounds) MatterTo(q Question) bool {
 	return (b.below == none || b.below < q.Hi) && (b.above == none || q.Lo < b.above)
+}
+
+// Hold tells whether a key lies between these bounds, and is none of them.
+func (b Bounds) Hold(key string) bool {
+	return (b.below == none || b.below < key) && (b.above == none || key < b.above)
 }

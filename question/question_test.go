@@ -59,6 +59,42 @@ func TestMatterTo(t *testing.T) {
 	}
 }
 
+func TestAsksFor(t *testing.T) {
+	for _, c := range []struct {
+		lo, hi, key string
+		want        bool
+	}{
+		{"k", "k", "k", true}, {"k", "k", "j", false}, {"k", "k", "l", false}, {"k", "k", "k\x00", false},
+		{"b", "d", "b", true}, {"b", "d", "c", true}, {"b", "d", "d", true}, {"b", "d", "a\xff", false}, {"b", "d", "d\x00", false},
+		{"\x7f", "\x80", "\x7f\xff", true}, {"\x7f", "\x80", "\x80\x00", false},
+	} {
+		if got := (Question{c.lo, c.hi}).AsksFor(c.key); got != c.want {
+			t.Errorf("%q, %q asks for %q: %v", c.lo, c.hi, c.key, got)
+		}
+	}
+}
+
+func TestHold(t *testing.T) {
+	whole := Bounds{}
+	for _, c := range []struct {
+		b    Bounds
+		key  string
+		want bool
+	}{
+		{whole, "\x00", true}, {whole, "\xff", true},
+		{whole.Left("k"), "j\xff", true}, {whole.Left("k"), "k", false}, {whole.Left("k"), "l", false}, {whole.Left("k"), "\x00", true},
+		{whole.Right("k"), "k\x00", true}, {whole.Right("k"), "k", false}, {whole.Right("k"), "j", false}, {whole.Right("k"), "\xff", true},
+		{whole.Right("k").Left("m"), "l", true}, {whole.Right("k").Left("m"), "k", false}, {whole.Right("k").Left("m"), "m", false},
+		{whole.Left("m").Right("k"), "a", false}, {whole.Left("m").Right("k"), "z", false}, {whole.Left("m").Right("k"), "k\x00", true},
+		{whole.Right("k").Left("k\x00"), "k", false}, {whole.Right("k").Left("k\x00"), "k\x00", false},
+		{whole.Right("\x7f").Left("\x81"), "\x80", true},
+	} {
+		if got := c.b.Hold(c.key); got != c.want {
+			t.Errorf("%q lies between %q: %v", c.key, c.b, got)
+		}
+	}
+}
+
 func TestBoundsDoNotTouch(t *testing.T) {
 	b := Bounds{}.Right("k")
 	b.Left("m")

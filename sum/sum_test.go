@@ -69,3 +69,16 @@ func TestOfLongText(t *testing.T) {
 		t.Errorf("Of a long text = %q, want %q", got, want)
 	}
 }
+
+func TestIs(t *testing.T) {
+	for n := range 4096 {
+		if s := fmt.Sprintf("%03x", n); !Is(s) {
+			t.Errorf("%q is none", s)
+		}
+	}
+	for _, s := range []string{"", "1", "14", "14d0", "14D", "14g", "1 4", " 14", "14 ", "14`", "14:", "/14", "é1", "\x00\x00\x00", "\xff\xff\xff", "1\xff4", strings.Repeat("0", 1<<20)} {
+		if Is(s) {
+			t.Errorf("%.20q is one", s)
+		}
+	}
+}
